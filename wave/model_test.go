@@ -113,15 +113,16 @@ type model struct {
 }
 
 // rows are the bits that must be kept: those of each row in the order of the list
-// behind stable sorts by one bit each, that of the first row ahead of the others.
+// behind one stable sort by all bits of the rows ahead, the first row's first. Of
+// two symbols that is the order of what is left of them without the other bits.
 func (m *model) rows() [][]bool {
-	l := slices.Clone(m.l)
 	width := ints.Width(m.size - 1)
 	out := make([][]bool, width)
 	for k := range out {
-		bit := func(c int) int { return c / (1 << (width - 1 - k)) % 2 }
-		out[k] = listOfBits(l, bit)
-		slices.SortStableFunc(l, func(a, b int) int { return bit(a) - bit(b) })
+		worth := 1 << (width - 1 - k)
+		l := slices.Clone(m.l)
+		slices.SortStableFunc(l, func(a, b int) int { return a/(2*worth) - b/(2*worth) })
+		out[k] = listOfBits(l, func(c int) int { return c / worth % 2 })
 	}
 	return out
 }

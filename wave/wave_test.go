@@ -99,8 +99,8 @@ func TestP4_1Rows(t *testing.T) {
 	})
 }
 
-// Rows written out by hand: the third one is in the order behind both sorts, the
-// second of which keeps the first one's order only among what has the same bit.
+// Rows written out by hand: from the third one on, the symbols are in order by the
+// first row's bit first, and only among those that have it alike by the second's.
 func TestP4_1RowsByHand(t *testing.T) {
 	for _, c := range []struct {
 		l    []int
@@ -108,9 +108,14 @@ func TestP4_1RowsByHand(t *testing.T) {
 		rows []bits.Bits
 	}{
 		{[]int{3, 1, 2, 1}, 4, rowsOf("1010", "1110")},
-		{[]int{3, 1, 4, 1, 5, 0, 2, 1}, 6, rowsOf("00101000", "10001000", "11010110")},
-		{[]int{6, 1, 3, 4}, 8, rowsOf("1001", "0110", "1010")},
-		{[]int{9, 6, 2, 15, 0}, 16, rowsOf("10010", "10001", "10011", "01001")},
+		{[]int{3, 4}, 5, rowsOf("01", "10", "10")},
+		{[]int{4, 3}, 5, rowsOf("10", "10", "10")},
+		{[]int{2, 5}, 6, rowsOf("01", "10", "01")},
+		{[]int{2, 33}, 34, rowsOf("01", "00", "00", "00", "10", "01")},
+		{[]int{3, 1, 4, 1, 5, 0, 2, 1}, 6, rowsOf("00101000", "10001000", "11011001")},
+		{[]int{5, 5, 2, 5, 5}, 6, rowsOf("11011", "10000", "01111")},
+		{[]int{6, 1, 3, 4}, 8, rowsOf("1001", "0110", "1100")},
+		{[]int{9, 6, 2, 15, 0}, 16, rowsOf("10010", "10001", "10101", "00011")},
 		{[]int{1, 0, 0, 1}, 2, rowsOf("1001")},
 		{[]int{0, 0, 0}, 1, nil},
 		{nil, 1, nil},
@@ -133,8 +138,8 @@ func TestP4_1RowsByHand(t *testing.T) {
 func TestP4_1Load(t *testing.T) {
 	eachSample(t, func(t *testing.T, m *model, w wave.Wave) {
 		var rows []bits.Bits
-		for _, row := range m.rows() {
-			read, e := bits.Read(len(row), bits.Make(row).Bytes())
+		for _, row := range madeRows(m) {
+			read, e := bits.Read(row.Len(), row.Bytes())
 			if e != api.OK {
 				t.Fatalf("bits.Read: error %d", int(e))
 			}
@@ -147,6 +152,56 @@ func TestP4_1Load(t *testing.T) {
 	})
 }
 
+// madeRows are the model's rows of bits.
+func madeRows(m *model) []bits.Bits {
+	var rows []bits.Bits
+	for _, row := range m.rows() {
+		rows = append(rows, bits.Make(row))
+	}
+	return rows
+}
+
+// Any bits are the Rows of some list, if the size is a power of 2: what is loaded
+// has them, and a size that is too small for one of its symbols refuses them.
+func TestP4_1LoadOfAnyBits(t *testing.T) {
+	for _, width := range []int{1, 2, 3, 4, 5, 7, 10, 16} {
+		for _, n := range lengths {
+			bit := mixed(uint32(width*1000+n), 2)
+			rows := make([]bits.Bits, width)
+			for k := range rows {
+				rows[k] = bits.Make(listOfBits(make([]int, n), bit))
+			}
+			m := &model{size: 1 << width}
+			w := loaded(t, n, m.size, rows)
+			m.l = w.List()
+			if !sameRows(madeRows(m), rows) || !sameRows(w.Rows(), rows) {
+				t.Fatalf("Load of %d symbols, width %d, is a list with other rows", n, width)
+			}
+			if n == 0 || slices.Max(m.l) < m.size/2 {
+				continue // of a lesser size, there would be fewer rows
+			}
+			greatest := slices.Max(m.l)
+			loaded(t, n, greatest+1, rows)
+			if greatest > m.size/2 {
+				refused(t, "a symbol that is the size", n, greatest, rows)
+			}
+		}
+	}
+}
+
+// The order is seen from the third row on: rows of two lists whose order differs
+// there alone are of other symbols, one of which is none of the lesser size.
+func TestP4_1LoadInThatOrder(t *testing.T) {
+	rows := rowsOf("01", "10", "01")
+	if w := loaded(t, 2, 6, rows); !slices.Equal(w.List(), []int{2, 5}) {
+		t.Errorf("Load of 01 10 01, size 6: %v, want 2 5", w.List())
+	}
+	refused(t, "5", 2, 5, rows)
+	if w := loaded(t, 2, 5, rowsOf("01", "10", "10")); !slices.Equal(w.List(), []int{3, 4}) {
+		t.Errorf("Load of 01 10 10, size 5: %v, want 3 4", w.List())
+	}
+}
+
 // Of short rows every bit there is, for every size: what some list has as its
 // Rows is loaded as that list, all else is refused.
 func TestP4_1LoadOfAllShortRows(t *testing.T) {
@@ -155,7 +210,8 @@ func TestP4_1LoadOfAllShortRows(t *testing.T) {
 		for n := 0; n <= 3; n++ {
 			lists := map[string][]int{}
 			eachList(n, size, func(l []int) {
-				lists[keyOf(made(t, l, size).Rows())] = slices.Clone(l)
+				m := &model{l: slices.Clone(l), size: size}
+				lists[keyOf(madeRows(m))] = m.l
 			})
 			took := 0
 			for number := range 1 << (n * width) {
