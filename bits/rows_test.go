@@ -2,10 +2,7 @@ package bits_test
 
 import (
 	"fmt"
-	"go/parser"
-	"go/token"
 	"math"
-	"path/filepath"
 	"slices"
 	"strings"
 	"testing"
@@ -358,27 +355,5 @@ func TestExamples(t *testing.T) {
 	}
 	if n, e := c.Number(1, 3); n != 6 || e != api.OK {
 		t.Errorf("Number(1, 3): %d, %d, want 6, 0", n, int(e))
-	}
-}
-
-// The chapter says that package bits imports only package api.
-func TestImports(t *testing.T) {
-	files, err := filepath.Glob("*.go")
-	if err != nil || len(files) == 0 {
-		t.Fatalf("no files: %v", err)
-	}
-	for _, file := range files {
-		if strings.HasSuffix(file, "_test.go") {
-			continue
-		}
-		parsed, err := parser.ParseFile(token.NewFileSet(), file, nil, parser.ImportsOnly)
-		if err != nil {
-			t.Fatal(err)
-		}
-		for _, i := range parsed.Imports {
-			if i.Path.Value != `"topiary/api"` {
-				t.Errorf("%s imports %s", file, i.Path.Value)
-			}
-		}
 	}
 }

@@ -2,9 +2,6 @@ package chars_test
 
 import (
 	"fmt"
-	"go/parser"
-	"go/token"
-	"path/filepath"
 	"slices"
 	"strings"
 	"testing"
@@ -174,26 +171,5 @@ func TestP11_1OfLongTexts(t *testing.T) {
 	}
 	if code, size := chars.Rune(long, len(long)-3); code != 8364 || size != 3 {
 		t.Errorf("Rune: %d, %d", code, size)
-	}
-}
-
-func TestImports(t *testing.T) {
-	files, err := filepath.Glob("*.go")
-	if err != nil || len(files) == 0 {
-		t.Fatal("no files", err)
-	}
-	for _, name := range files {
-		if strings.HasSuffix(name, "_test.go") {
-			continue
-		}
-		f, err := parser.ParseFile(token.NewFileSet(), name, nil, parser.ImportsOnly)
-		if err != nil {
-			t.Fatal(err)
-		}
-		for _, i := range f.Imports {
-			if i.Path.Value != `"topiary/api"` {
-				t.Errorf("%s imports %s", name, i.Path.Value)
-			}
-		}
 	}
 }

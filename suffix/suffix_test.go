@@ -1,12 +1,8 @@
 package suffix_test
 
 import (
-	"go/parser"
-	"go/token"
 	"math"
-	"path/filepath"
 	"slices"
-	"strings"
 	"testing"
 
 	"topiary/api"
@@ -250,27 +246,5 @@ func TestExamples(t *testing.T) {
 	}
 	if from, to := suffix.Find(l, in, []int{1, 3}); from != 1 || to != 3 {
 		t.Error("Find", from, to)
-	}
-}
-
-func TestImports(t *testing.T) {
-	allowed := []string{"slices", "topiary/api", "topiary/order"}
-	files, err := filepath.Glob("*.go")
-	if err != nil || len(files) == 0 {
-		t.Fatal("no files", err)
-	}
-	for _, name := range files {
-		if strings.HasSuffix(name, "_test.go") {
-			continue
-		}
-		f, err := parser.ParseFile(token.NewFileSet(), name, nil, parser.ImportsOnly)
-		if err != nil {
-			t.Fatal(err)
-		}
-		for _, i := range f.Imports {
-			if path := strings.Trim(i.Path.Value, `"`); !slices.Contains(allowed, path) {
-				t.Errorf("%s imports %s", name, path)
-			}
-		}
 	}
 }

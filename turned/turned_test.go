@@ -1,12 +1,8 @@
 package turned_test
 
 import (
-	"go/parser"
-	"go/token"
 	"math"
-	"path/filepath"
 	"slices"
-	"strings"
 	"testing"
 
 	"topiary/api"
@@ -340,27 +336,5 @@ func TestExamples(t *testing.T) {
 	}
 	if got, err := turned.Back([]int{1, 1}); err != api.ErrForm || got != nil {
 		t.Error("Back of no row turned", got, err)
-	}
-}
-
-func TestImports(t *testing.T) {
-	allowed := []string{"topiary/api", "topiary/order", "topiary/suffix"}
-	files, err := filepath.Glob("*.go")
-	if err != nil || len(files) == 0 {
-		t.Fatal("no files", err)
-	}
-	for _, name := range files {
-		if strings.HasSuffix(name, "_test.go") {
-			continue
-		}
-		f, err := parser.ParseFile(token.NewFileSet(), name, nil, parser.ImportsOnly)
-		if err != nil {
-			t.Fatal(err)
-		}
-		for _, i := range f.Imports {
-			if path := strings.Trim(i.Path.Value, `"`); !slices.Contains(allowed, path) {
-				t.Errorf("%s imports %s", name, path)
-			}
-		}
 	}
 }

@@ -1,9 +1,6 @@
 package values_test
 
 import (
-	"go/parser"
-	"go/token"
-	"path/filepath"
 	"slices"
 	"strings"
 	"testing"
@@ -370,27 +367,5 @@ func TestP10_SameAnswers(t *testing.T) {
 				checkAll(t, m, v, m.patterns())
 			}
 		})
-	}
-}
-
-func TestImports(t *testing.T) {
-	allowed := []string{"topiary/api", "topiary/order", "topiary/fm"}
-	files, err := filepath.Glob("*.go")
-	if err != nil || len(files) == 0 {
-		t.Fatal("no files", err)
-	}
-	for _, name := range files {
-		if strings.HasSuffix(name, "_test.go") {
-			continue
-		}
-		f, err := parser.ParseFile(token.NewFileSet(), name, nil, parser.ImportsOnly)
-		if err != nil {
-			t.Fatal(err)
-		}
-		for _, i := range f.Imports {
-			if path := strings.Trim(i.Path.Value, `"`); !slices.Contains(allowed, path) {
-				t.Errorf("%s imports %s", name, path)
-			}
-		}
 	}
 }

